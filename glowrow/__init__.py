@@ -1,0 +1,1 @@
+"""Glowrow: pictures laid spot by spot as a beam goes."""
