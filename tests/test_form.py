@@ -1,4 +1,4 @@
-"""The form of the package's files: the rules of its language that can be told by looking at one file."""
+"""The form of the files: some of the rules of the package's language, those that are easily told by looking at one file."""
 
 import ast
 import pathlib
