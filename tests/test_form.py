@@ -1,6 +1,7 @@
-"""The form of the files: some of the rules of the package's language, those that are easily told by looking at one file."""
+"""The form of the files: some of the rules of the package's language, those that are easily told."""
 
 import ast
+import builtins
 import pathlib
 import re
 import unittest
@@ -19,6 +20,18 @@ KNOWN_NAMES = set((
     "isinstance ord repr any all divmod Exception ValueError TypeError KeyError IndexError LookupError "
     "ZeroDivisionError ArithmeticError OverflowError RuntimeError NotImplementedError AttributeError StopIteration"
 ).split())
+BARRED_AS_NAMES = (
+    "register mro elements open input version_info with_traceback add_note attrgetter breakpoint builtins compile "
+    "copyright credits delattr dir eval exec exit gc getattr globals hasattr help id importlib license locals "
+    "methodcaller os quit setattr super type vars sys"
+).split()
+KNOWN_METHODS = set((
+    "append clear copy count endswith extend find get index insert isalnum isalpha isdigit islower isspace isupper "
+    "items join keys ljust lower lstrip partition pop remove replace reverse rfind rjust rpartition rsplit rstrip "
+    "setdefault split splitlines startswith strip update upper values zfill bit_length sort add discard"
+).split())
+WALKED = ("zip", "enumerate", "reversed", "range", "items", "keys", "values")
+WALKERS = ("list", "tuple", "dict", "sorted", "sum", "any", "all", "enumerate", "zip", "min", "max", "join")
 DUNDERS = ("__init__", "__eq__", "__repr__", "__str__", "__len__")
 
 
@@ -41,6 +54,44 @@ def bound_names(tree):
         elif isinstance(node, ast.ExceptHandler) and node.name:
             told.add(node.name)
     return told
+
+
+def local_names(tree):
+    """Every parameter's, local's and inner def's name of a file."""
+    told = set()
+    for node in ast.walk(tree):
+        if isinstance(node, (ast.FunctionDef, ast.Lambda)):
+            told.update(arg.arg for arg in node.args.args + node.args.kwonlyargs)
+        if isinstance(node, ast.FunctionDef):
+            for inner in ast.walk(node):
+                if isinstance(inner, ast.Name) and not isinstance(inner.ctx, ast.Load):
+                    told.add(inner.id)
+                elif isinstance(inner, ast.FunctionDef) and inner is not node:
+                    told.add(inner.name)
+    return told
+
+
+def own_methods():
+    told = set()
+    for file, tree in trees():
+        for node in ast.walk(tree):
+            if isinstance(node, ast.ClassDef):
+                told.update(part.name for part in node.body if isinstance(part, ast.FunctionDef))
+    return told
+
+
+def own_values():
+    told = set()
+    for file, tree in trees():
+        for node in ast.walk(tree):
+            if isinstance(node, ast.Attribute) and isinstance(node.ctx, ast.Store):
+                told.add(node.attr)
+    return told
+
+
+def called_name(node):
+    """What a call calls, be it a name or a method."""
+    return getattr(node.func, "id", getattr(node.func, "attr", ""))
 
 
 def trees():
@@ -107,6 +158,75 @@ class Form(unittest.TestCase):
             for node in ast.walk(tree):
                 if isinstance(node, ast.Name):
                     self.assertIn(node.id, bound | KNOWN_NAMES, file)
+
+    def test_no_local_is_called_like_pythons_own_or_like_an_import_or_a_class(self):
+        for file, tree in trees():
+            tops = {node.name for node in tree.body if isinstance(node, ast.ClassDef)}
+            for node in tree.body:
+                if isinstance(node, ast.ImportFrom):
+                    tops.update(alias.name for alias in node.names)
+            for name in local_names(tree):
+                self.assertNotIn(name, tops, file)
+                self.assertFalse(hasattr(builtins, name), (file, name))
+
+    def test_barred_names(self):
+        for file, tree in trees():
+            self.assertEqual([name for name in BARRED_AS_NAMES if name in bound_names(tree)], [], file)
+
+    def test_each_name_is_given_once_at_a_files_top(self):
+        for file, tree in trees():
+            told = []
+            for node in tree.body:
+                if isinstance(node, (ast.FunctionDef, ast.ClassDef)):
+                    told.append(node.name)
+                elif isinstance(node, ast.ImportFrom):
+                    told += [alias.name for alias in node.names]
+                elif isinstance(node, ast.Assign):
+                    told += [target.id for target in node.targets]
+            self.assertEqual(len(told), len(set(told)), file)
+
+    def test_no_name_is_a_method_and_a_value(self):
+        self.assertEqual(own_methods() & own_values(), set())
+
+    def test_what_is_asked_of_things_is_theirs(self):
+        for file, tree in trees():
+            called = set()
+            for node in ast.walk(tree):
+                if isinstance(node, ast.Call) and isinstance(node.func, ast.Attribute):
+                    called.add(node.func)
+                    self.assertIn(node.func.attr, own_methods() | KNOWN_METHODS, file)
+            for node in ast.walk(tree):
+                if isinstance(node, ast.Attribute) and node not in called:
+                    self.assertIn(node.attr, own_values(), file)
+
+    def test_is_stands_beside_none_and_the_truths_alone(self):
+        for file, tree in trees():
+            for node in ast.walk(tree):
+                if isinstance(node, ast.Compare):
+                    for sign, right in zip(node.ops, node.comparators):
+                        if isinstance(sign, (ast.Is, ast.IsNot)):
+                            self.assertIn(getattr(right, "value", ""), (None, True, False), (file, node.lineno))
+
+    def test_what_is_to_be_walked_is_walked_on_the_spot(self):
+        for file, tree in trees():
+            good = set()
+            for node in ast.walk(tree):
+                if isinstance(node, (ast.For, ast.comprehension)):
+                    good.add(node.iter)
+                elif isinstance(node, ast.Call) and node.args and called_name(node) in WALKERS:
+                    good.add(node.args[0])
+                    if called_name(node) == "zip":
+                        good.update(node.args)
+            for node in ast.walk(tree):
+                if isinstance(node, ast.Call) and called_name(node) in WALKED:
+                    self.assertIn(node, good, (file, node.lineno))
+
+    def test_texts_and_numbers(self):
+        for file, tree in trees():
+            for node in ast.walk(tree):
+                if isinstance(node, ast.Constant) and isinstance(node.value, str):
+                    self.assertNotIn("%", node.value, (file, node.lineno))
+                self.assertNotIsInstance(node, (ast.Pow, ast.Starred), file)
 
 
 if __name__ == "__main__":
