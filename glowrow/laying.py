@@ -1,0 +1,37 @@
+"""Laying: a beam gone to its end with deeds at their ticks, and which of these deeds came amid."""
+
+from glowrow.beam import Beam
+from glowrow.errors import NoTick
+from glowrow.frames import ticks_of
+
+
+def ticks_hold(frame, timed):
+    """Tell whether each tick is one of the frame and none is less than the one ahead."""
+    ticks = [tick for tick, deed in timed]
+    return ticks == sorted(ticks) and all([0 <= tick < ticks_of(frame) for tick in ticks])
+
+
+def laid(frame, stand, timed):
+    """Tell the beam that has gone to its end, or refuse with NoFrame, NoStand, NoTick or NoDeed."""
+    beam = Beam(frame, stand)
+    if not ticks_hold(frame, timed):
+        raise NoTick("a tick isn't one of the frame, or is less than the one ahead")
+    # All ticks were looked at by now, so the beam may refuse a deed when it comes to it.
+    for tick, deed in timed:
+        beam.go(tick - beam.tick())
+        beam.deed(deed)
+    beam.go(ticks_of(frame) - beam.tick())
+    return beam
+
+
+def slips(frame, stand, timed):
+    """Tell the places of the deeds that slip, or refuse as laid does."""
+    picture = laid(frame, stand, timed).picture()
+    told = []
+    for at, (tick, deed) in enumerate(timed):
+        others = timed[:at] + timed[at + 1:]
+        without = laid(frame, stand, others).picture()
+        at_first = laid(frame, stand, [(0, deed)] + others).picture()
+        if picture != without and picture != at_first:
+            told.append(at)
+    return told
