@@ -6,14 +6,19 @@ from glowrow.rows import covers_at, ink_shown, lost_on, taken
 from glowrow.stands import is_stand, stand_behind
 
 
+def check_begin(frame, stand):
+    """Refuse with NoFrame or NoStand what a beam can't begin with."""
+    if not is_frame(frame):
+        raise NoFrame("that is no frame")
+    if not is_stand(stand):
+        raise NoStand("that is no stand")
+
+
 class Beam:
     """A beam on its way over a frame, with the stand as it is."""
 
     def __init__(self, frame, stand):
-        if not is_frame(frame):
-            raise NoFrame("that is no frame")
-        if not is_stand(stand):
-            raise NoStand("that is no stand")
+        check_begin(frame, stand)
         self.frame = frame
         self.standing = stand
         self.ahead = 0

@@ -67,3 +67,37 @@ def some_timed(rng, frame, stand, many):
     last = frame[1] * (frame[0] + frame[2]) - 1
     ticks = sorted(rng.choice((0, last, rng.randint(0, last), rng.randint(0, last))) for k in range(many))
     return [(tick, some_deed(rng, stand)) for tick in ticks]
+
+
+def some_line(rng, frame, stand, many):
+    """A line, for a count of lines, whose waits and skips lie mostly about the frame's ticks."""
+    word = rng.choice(("wait", "skip", "do", "do", "do", "to"))
+    if word == "do":
+        return (word, some_deed(rng, stand))
+    if word == "to":
+        return (word, rng.randrange(many))
+    if rng.randrange(6) == 0:
+        return (word, rng.randint(0, 60), rng.randint(0, 60))
+    return (word, rng.randrange(frame[1] + 1), rng.randrange(frame[0] + frame[2] + 1))
+
+
+def some_score(rng, frame, stand, many):
+    """A score of so many lines."""
+    return [some_line(rng, frame, stand, many) for k in range(many)]
+
+
+def some_path(rng, near=False):
+    """A path, near the picture or anywhere."""
+    low = rng.randint(-6, 12) if near else rng.choice((-900, 900, rng.randint(-900, 900)))
+    high = low + rng.choice((0, 1, 2, 12, rng.randint(0, 12)))
+    return (low, high, rng.randint(low, high), rng.choice((0, 1, -1, 12, -12, rng.randint(-12, 12))))
+
+
+def some_film(rng, most_movers=6, near=True):
+    """A film in which some movers have paths."""
+    frame, (floor, shift, book, movers, pots) = some_frame(rng), some_stand(rng, most_movers)
+    paths = tuple(rng.choice((None, True, True)) and (some_path(rng, near), some_path(rng, near)) for mover in movers)
+    placed = []
+    for mover, pair in zip(movers, paths):
+        placed.append(mover if pair is None else mover[:1] + (pair[0][2], pair[1][2]) + mover[3:])
+    return (frame, (floor, shift, book, tuple(placed), pots), paths)
