@@ -84,7 +84,7 @@ def read_plan(text):
     # No deed changes how many movers and shapes there are, so what is a deed at first stays one.
     if not all([is_deed(stand, deed) for tick, deed in timed]):
         raise NoText("there is no such deed")
-    # Written anew it shows whatever was written otherwise: noughts ahead, lines in another order.
+    # Written anew it shows whatever stands otherwise, such as lines in another order.
     if plan_text(frame, stand, timed) != text:
         raise NoText("the plan is not so written")
     return (frame, stand, timed)
@@ -134,7 +134,10 @@ def read_number(word):
     # No number of a plan has more than four figures, and Python reads none of several thousand.
     if not 1 <= len(figures) <= 4 or any([figure not in FIGURES for figure in figures]):
         raise NoText("that writes no number")
-    return int(word)
+    number = int(word)
+    if str(number) != word:
+        raise NoText("the number is written otherwise")
+    return number
 
 
 def read_timed(words):

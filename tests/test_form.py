@@ -90,8 +90,9 @@ def own_values():
 
 
 def called_name(node):
-    """What a call calls, be it a name or a method."""
-    return getattr(node.func, "id", getattr(node.func, "attr", ""))
+    """What a call calls, be it a name or a method; of other things an empty text."""
+    called = getattr(node, "func", None)
+    return getattr(called, "id", getattr(called, "attr", ""))
 
 
 def trees():
@@ -213,6 +214,8 @@ class Form(unittest.TestCase):
             for node in ast.walk(tree):
                 if isinstance(node, (ast.For, ast.comprehension)):
                     good.add(node.iter)
+                elif isinstance(node, ast.Call) and called_name(node) == "reversed":
+                    good.update(part for part in node.args if called_name(part) == "range")
                 elif isinstance(node, ast.Call) and node.args and called_name(node) in WALKERS:
                     good.add(node.args[0])
                     if called_name(node) == "zip":

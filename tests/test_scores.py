@@ -438,6 +438,14 @@ class ScoreFor(unittest.TestCase):
             self.assertEqual(len(told[1]), 100)
             self.assertEqual(len(self.look(frame, [(pace * k, A) for k in range(50)], pace)[1]), 50)
 
+    def test_somewhat_more_than_fifty(self):
+        # A list of more than a hundred lines is no score, so the first deed that needs such a line is late.
+        frame = (40, 40, 20, 0)
+        self.assertEqual(score_for(frame, [(2 * k + 1, A) for k in range(51)], 1), ("late", 50))
+        self.assertEqual(len(self.look(frame, [(k, A) for k in range(60)], 1)[1]), 60)
+        self.assertEqual(len(self.look(frame, [(k, A) for k in range(100)], 1)[1]), 100)
+        self.assertEqual(score_for(frame, [(k, A) for k in range(101)], 1), ("late", 100))
+
     def test_many(self):
         rng = random.Random(282)
         words = {"score": 0, "late": 0}
